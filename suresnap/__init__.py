@@ -1,0 +1,1 @@
+"""Suresnap: what late news of a server's commits proves of every key."""

@@ -1,0 +1,100 @@
+"""The rules of the language that a short look at the files can check, and where the interface is defined."""
+
+import ast
+import builtins
+import pathlib
+import re
+import unittest
+
+PACKAGE = pathlib.Path(__file__).resolve().parent.parent / "suresnap"
+FILES = sorted(PACKAGE.rglob("*.py"))
+BUILTINS = set("""len range enumerate zip min max sum abs sorted reversed int str bool list tuple dict set frozenset
+    isinstance ord repr any all divmod iter next Exception ValueError TypeError KeyError IndexError LookupError
+    ZeroDivisionError ArithmeticError OverflowError RuntimeError NotImplementedError StopIteration""".split())
+BARRED = set("""type typing enum Enum IntEnum StrEnum Flag IntFlag Generic Protocol ABC ABCMeta namedtuple NamedTuple
+    TypedDict register mro elements open input law version_info with_traceback add_note""".split())
+INTERFACE = {
+    "errors": ("SnapError", "TextError", "Contradiction", "NoSuchChange"),
+    "news": ("parse_news", "print_news"),
+    "histories": ("times_in", "value_in", "head_of", "agrees"),
+}
+
+
+def trees():
+    return [(path, ast.parse(path.read_text())) for path in FILES]
+
+
+def nodes(kind):
+    return [(path, node) for path, tree in trees() for node in ast.walk(tree) if isinstance(node, kind)]
+
+
+class Language(unittest.TestCase):
+    def test_files(self):
+        self.assertTrue(FILES)
+        for path in PACKAGE.rglob("*"):
+            if "__pycache__" not in path.parts and path.is_file():
+                self.assertRegex(path.name, r"^[a-z_]+\.py$")
+
+    def test_sizes_and_characters(self):
+        for path in FILES:
+            text = path.read_text()
+            self.assertRegex(text, r"\A[\n -~]*\Z")
+            self.assertLessEqual(len(text.splitlines()), 399, path)
+            self.assertLessEqual(max([len(line) for line in text.splitlines()]), 120, path)
+        for path, node in nodes(ast.FunctionDef):
+            self.assertLessEqual(node.end_lineno - node.lineno + 1, 40, (path, node.name))
+
+    def test_imports(self):
+        for path, node in nodes((ast.Import, ast.ImportFrom)):
+            self.assertIsInstance(node, ast.ImportFrom, path)
+            self.assertTrue(node.level == 0 and node.module.startswith("suresnap."), path)
+            self.assertNotIn("*", [name.name for name in node.names], path)
+
+    def test_module_level(self):
+        allowed = (ast.ImportFrom, ast.FunctionDef, ast.ClassDef, ast.Assign, ast.Expr)
+        for path, tree in trees():
+            for at, node in enumerate(tree.body):
+                self.assertIsInstance(node, allowed, path)
+                if isinstance(node, ast.Expr):
+                    self.assertTrue(at == 0 and isinstance(node.value, ast.Constant), path)
+
+    def test_names(self):
+        for path, node in nodes(ast.Name):
+            if isinstance(node.ctx, ast.Load) and hasattr(builtins, node.id):
+                self.assertIn(node.id, BUILTINS, path)
+            if isinstance(node.ctx, ast.Store):
+                self.assertFalse(hasattr(builtins, node.id), (path, node.id))
+        for path, node in nodes(ast.arg):
+            self.assertFalse(hasattr(builtins, node.arg), (path, node.arg))
+        for path, node in nodes((ast.FunctionDef, ast.ClassDef)):
+            self.assertNotIn(node.name, BARRED, path)
+
+    def test_no_floats_and_no_percent(self):
+        for path, node in nodes(ast.Constant):
+            self.assertNotIsInstance(node.value, (float, complex), path)
+        for path, node in nodes(ast.BinOp):
+            self.assertNotIsInstance(node.op, ast.Div, path)
+
+    def test_no_barred_words(self):
+        for path in FILES:
+            tree = ast.parse(path.read_text())
+            words = set(re.findall(r"[A-Za-z_]+", ast.unparse(without_docstrings(tree))))
+            self.assertFalse(words & BARRED, path)
+
+    def test_interface_is_defined_in_its_file(self):
+        for name, wanted in INTERFACE.items():
+            tree = ast.parse((PACKAGE / f"{name}.py").read_text())
+            defined = [node.name for node in tree.body if isinstance(node, (ast.FunctionDef, ast.ClassDef))]
+            for one in wanted:
+                self.assertIn(one, defined)
+
+
+def without_docstrings(tree):
+    for node in ast.walk(tree):
+        if isinstance(node, (ast.Module, ast.ClassDef, ast.FunctionDef)) and ast.get_docstring(node) is not None:
+            node.body = node.body[1:] or [ast.Pass()]
+    return tree
+
+
+if __name__ == "__main__":
+    unittest.main()
