@@ -39,15 +39,18 @@ def is_commit(shelf, commit):
     return len(keys) > 0 and keys == sorted(set(keys)) and all([key in shelf for key in keys])
 
 
+def differ(told):
+    """Return whether a list of pairs (thing, what is told of it) tells two things of one."""
+    first = {}
+    for thing, what in told:
+        if first.setdefault(thing, what) != what:
+            return True
+    return False
+
+
 def tells_two_values(news):
     """Return whether two pieces value tell two values for one write."""
-    told = {}
-    for piece in news:
-        if piece[0] == "value":
-            _, key, number, value = piece
-            if told.setdefault((key, number), value) != value:
-                return True
-    return False
+    return differ([((piece[1], piece[2]), piece[3]) for piece in news if piece[0] == "value"])
 
 
 def value_is_true(history, piece):

@@ -13,10 +13,16 @@ BUILTINS = set("""len range enumerate zip min max sum abs sorted reversed int st
     ZeroDivisionError ArithmeticError OverflowError RuntimeError NotImplementedError StopIteration""".split())
 BARRED = set("""type typing enum Enum IntEnum StrEnum Flag IntFlag Generic Protocol ABC ABCMeta namedtuple NamedTuple
     TypedDict register mro elements open input law version_info with_traceback add_note""".split())
+VALUE_METHODS = set("""append clear copy count endswith extend find get index insert isalnum isalpha isdigit islower
+    isspace isupper items join keys ljust lower lstrip partition pop remove replace reverse rfind rjust rpartition
+    rsplit rstrip setdefault split splitlines startswith strip update upper values zfill bit_length""".split())
 INTERFACE = {
     "errors": ("SnapError", "TextError", "Contradiction", "NoSuchChange"),
     "news": ("parse_news", "print_news"),
     "histories": ("times_in", "value_in", "head_of", "agrees"),
+    "bounds": ("clashes", "stretches"),
+    "tables": ("possible", "first_history"),
+    "counts": ("counts", "history_with"),
 }
 
 
@@ -74,6 +80,29 @@ class Language(unittest.TestCase):
             self.assertNotIsInstance(node.value, (float, complex), path)
         for path, node in nodes(ast.BinOp):
             self.assertNotIsInstance(node.op, ast.Div, path)
+
+    def test_only_listed_methods_of_values(self):
+        own = {node.name for _, kind in nodes(ast.ClassDef) for node in kind.body if isinstance(node, ast.FunctionDef)}
+        self.assertFalse(own & VALUE_METHODS)
+        for path, node in nodes(ast.Call):
+            if isinstance(node.func, ast.Attribute):
+                self.assertIn(node.func.attr, own | VALUE_METHODS, path)
+
+    def test_no_name_is_a_method_and_an_attribute(self):
+        for path, kind in nodes(ast.ClassDef):
+            own = {node.name for node in kind.body if isinstance(node, ast.FunctionDef)}
+            for node in ast.walk(kind):
+                if isinstance(node, ast.Attribute) and isinstance(node.ctx, ast.Store):
+                    self.assertNotIn(node.attr, own, path)
+
+    def test_no_two_files_import_from_each_other(self):
+        wanted = {path.stem: set() for path in FILES}
+        for path, node in nodes(ast.ImportFrom):
+            wanted[path.stem].add(node.module.split(".")[-1])
+        while wanted:
+            free = [name for name, needed in wanted.items() if not needed & set(wanted)]
+            self.assertTrue(free, wanted)
+            wanted = {name: needed for name, needed in wanted.items() if name not in free}
 
     def test_no_barred_words(self):
         for path in FILES:

@@ -1,0 +1,19 @@
+"""How often a key can have been written by a version."""
+
+from suresnap.tables import first_history, settled_table
+
+
+def counts(shelf, news, key, version):
+    """Return the tuple of the least and the greatest number of writes of a key by a version."""
+    # No arc of a table stands for version 0, at which no key has been written.
+    if version < 1:
+        return (0, 0)
+    table = settled_table(shelf, news)
+    arc = table.sums[key, version]
+    least = table.network.fewest(arc)
+    return (least, table.network.most(arc))
+
+
+def history_with(shelf, news, key, version, number):
+    """Return the first possible history with this number of writes of a key by a version, or None."""
+    return first_history(shelf, [*news, ("times", key, version, number)])
