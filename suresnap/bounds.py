@@ -1,4 +1,4 @@
-"""What news tells of commits, cells and stretches, and whether it clashes."""
+"""What news tells of commits, cells, writes and stretches, and whether it clashes."""
 
 from suresnap.histories import differ, head_of, tells_two_values
 from suresnap.news import shelf_keys
@@ -42,6 +42,16 @@ def due_cells(news):
             for key in shelf_keys(piece):
                 due[piece[1], key] = True
     return due
+
+
+def cell_bounds(cell, shut, due):
+    """Return the least and the greatest number of writes of a cell."""
+    return (1 if cell in due else 0, 0 if cell in shut else 1)
+
+
+def told_values(news):
+    """Return a dict of the values that news tells, by pairs (key, number of the write)."""
+    return {(piece[1], piece[2]): piece[3] for piece in news if piece[0] == "value"}
 
 
 def marks_of(news, key):

@@ -1,5 +1,8 @@
 """Networks: nodes joined by arcs that carry whole amounts, as much into each node as out of it."""
 
+# The node at which the amounts of a network begin and end.
+HUB = 0
+
 
 class Network:
     """Nodes and arcs; an arc carries an amount from its tail to its head, at first nothing."""
@@ -70,14 +73,23 @@ class Network:
         self.amounts[arc] -= 1
         return True
 
-    def settle(self):
-        """Bring the amounts of all arcs within their bounds, and return whether that can be."""
+    def first_lacking(self):
+        """Bring the amounts within their bounds; return None, or an arc that can't get its least amount."""
         for arc, least in enumerate(self.least):
             # No later step takes an arc below its least amount again.
             while self.amounts[arc] < least:
                 if not self.enlarge(arc):
-                    return False
-        return True
+                    return arc
+        return None
+
+    def settle(self):
+        """Bring the amounts of all arcs within their bounds, and return whether that can be."""
+        return self.first_lacking() is None
+
+    def behind(self, arc):
+        """Return a dict of the nodes to which one more through an arc could go on from its end."""
+        tail, end = self.ends[arc]
+        return self.ways(end, tail, arc)
 
     def most(self, arc):
         """Let an arc of a settled network carry as much as it can, and return how much that is."""

@@ -1,15 +1,8 @@
 """Tables of which commit wrote which keys: whether there is one for news, and which is the first."""
 
-from suresnap.bounds import clashes, due_cells, shut_cells, version_bounds
+from suresnap.bounds import cell_bounds, clashes, due_cells, shut_cells, told_values, version_bounds
 from suresnap.histories import head_of
-from suresnap.networks import Network
-
-HUB = 0
-
-
-def cell_bounds(cell, shut, due):
-    """Return the least and the greatest number of writes of a cell."""
-    return (1 if cell in due else 0, 0 if cell in shut else 1)
+from suresnap.networks import HUB, Network
 
 
 class Table:
@@ -87,7 +80,7 @@ def possible(shelf, news):
 
 def history_of(table, news):
     """Return the history of a table with the values that news tells and 0 elsewhere."""
-    told = {(piece[1], piece[2]): piece[3] for piece in news if piece[0] == "value"}
+    told = told_values(news)
     written = {key: 0 for key in table.shelf}
     history = []
     for version in range(1, table.last + 1):

@@ -73,29 +73,29 @@ class Reader:
 
     def __init__(self, tokens):
         self.tokens = tokens
-        self.taken = 0
+        self.passed = 0
         self.beyond = None
 
     def sees(self, kind):
         """Return whether the next token is of this kind."""
-        return self.tokens[self.taken][0] == kind
+        return self.tokens[self.passed][0] == kind
 
     def sees_key(self):
         """Return whether the next token can be a key."""
-        return self.sees(WORD) and len(self.tokens[self.taken][1]) <= LONGEST_KEY
+        return self.sees(WORD) and len(self.tokens[self.passed][1]) <= LONGEST_KEY
 
     def sees_word(self, choices):
         """Return whether the next token is one of these words."""
-        return self.sees(WORD) and self.tokens[self.taken][1] in choices
+        return self.sees(WORD) and self.tokens[self.passed][1] in choices
 
     def take(self, fits):
         """Take the next token, which must fit, and return its word."""
-        kind, word, place = self.tokens[self.taken]
+        kind, word, place = self.tokens[self.passed]
         if kind == END and not fits:
             raise TextError(place, "unexpected end")
         if not fits:
             raise TextError(place, "unexpected token")
-        self.taken += 1
+        self.passed += 1
         return word
 
     def take_word(self, choices):
@@ -115,7 +115,7 @@ class Reader:
 
     def take_number(self, least, greatest):
         """Take a number and return it; a number beyond the limits is noted."""
-        place = self.tokens[self.taken][2]
+        place = self.tokens[self.passed][2]
         number = number_of(self.take(self.sees(NUMBER)))
         # A later token that does not fit is the earlier error, so this one can't be raised yet.
         if self.beyond is None and not least <= number <= greatest:

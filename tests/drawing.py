@@ -2,6 +2,9 @@
 
 import itertools
 
+SHELVES = (("a",), ("b",), ("a", "b"), ("a", "ab"), ("a", "b", "c"), ("b", "ba", "c"))
+THREE = ("a", "b", "c")
+SIX = ("a", "b", "c", "d", "e", "f")
 
 
 def some_keys(draw, keys):
@@ -75,6 +78,46 @@ def any_news(draw, shelf, versions, pieces):
     return [any_piece(draw, shelf, versions) for _ in range(pieces)]
 
 
+def strained_news(draw, shelf, versions, pieces):
+    """Pieces that leave little room, with one number bent: no history agrees with many of these, yet few clash."""
+    table = a_table(draw, shelf, versions)
+    news = [("many", version, len(commit)) for version, commit in enumerate(table, start=1)]
+    news += [("times", key, versions, sum(key in commit for commit in table)) for key in shelf]
+    at = draw.randrange(len(news))
+    news[at] = news[at][:-1] + (max(1, news[at][-1] + draw.choice((-1, 1))),)
+    for _ in range(draw.randint(0, 3)):
+        piece = true_piece(draw, shelf, table)
+        news[draw.randrange(len(news))] = piece
+        if draw.random() < 0.5:
+            news.append(true_piece(draw, shelf, table))
+    draw.shuffle(news)
+    return news[:pieces]
+
+
+def tight_news(draw, shelf, versions):
+    """40 pieces that leave little room: many of each version, times of each key, and others."""
+    table = a_table(draw, shelf, versions)
+    news = [("many", version, len(table[version - 1])) for version in range(1, versions + 1)]
+    for key in shelf:
+        for version in (versions // 2, versions):
+            news.append(("times", key, version, sum(key in commit for commit in table[:version])))
+    while len(news) < 40:
+        piece = true_piece(draw, shelf, table)
+        if piece[0] in ("did", "among", "value"):
+            news.append(piece)
+    draw.shuffle(news)
+    return news
+
+
+def bent_once(draw, news):
+    """The list with another number in one of its pieces many or times."""
+    news = list(news)
+    places = [at for at, piece in enumerate(news) if piece[0] in ("many", "times")]
+    at = draw.choice(places)
+    news[at] = news[at][:-1] + (max(1, news[at][-1] + draw.choice((-1, 1))),)
+    return news
+
+
 def drawn_news(draw, shelf, versions, pieces):
     """A list of news of one of the three kinds; its pieces stand in any order, some of them twice."""
     kind = draw.choice((true_news, true_news, bent_news, bent_news, any_news))
@@ -86,9 +129,31 @@ def drawn_news(draw, shelf, versions, pieces):
     return news
 
 
+def mixed(draw, news):
+    """The pieces of a list in another order, some of them twice."""
+    news = news + [piece for piece in news if draw.random() < 0.3]
+    draw.shuffle(news)
+    return news
+
+
+def views_of(shelf):
+    """All views of a shelf."""
+    return [keys for size in range(1, len(shelf) + 1) for keys in itertools.combinations(shelf, size)]
+
+
+def told_news(draw, shelf, versions, pieces):
+    """True news in which the values of many writes are told, so that much is sure; few values differ."""
+    news = true_news(draw, shelf, versions, pieces)
+    for key in shelf:
+        for number in range(1, versions + 1):
+            if draw.random() < 0.7 and not any(piece[:3] == ("value", key, number) for piece in news):
+                news.append(("value", key, number, draw.choice((0, 0, 5, 5, -7))))
+    return mixed(draw, news)
+
+
 def every_piece(names, versions):
     """All pieces about these keys and versions, with a few numbers of many and a few values."""
-    sets = [keys for size in range(1, len(names) + 1) for keys in itertools.combinations(names, size)]
+    sets = views_of(names)
     out = [("head", version) for version in range(versions + 1)]
     out += [("times", key, version, number)
             for key in names for version in range(versions + 1) for number in range(versions + 2)]

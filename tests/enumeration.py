@@ -1,4 +1,4 @@
-"""Slow second ways to tables, counts, clashes and stretches, written apart from the program."""
+"""Slow second ways to tables, counts, values, papers and quarrels, written apart from the program."""
 
 import itertools
 
@@ -73,15 +73,33 @@ class Every:
         return [n for n in range(version + 1) if found & self.true_of(("times", key, version, n))]
 
 
-def with_values(table, news):
-    """The history of a table with the values that news tells."""
+    def value(self, found, news, key, version):
+        """The value of a key at a version if it is the same in a set of tables, otherwise None."""
+        told = {piece[1:3]: piece[3] for piece in news if piece[0] == "value"}
+        told[key, 0] = 0
+        values = {told.get((key, number), "any") for number in self.numbers(found, key, version)}
+        return None if len(values) > 1 or "any" in values else values.pop()
+
+    def members(self, found):
+        """The list of the tables of a set."""
+        return [table for at, table in enumerate(self.tables) if found >> at & 1]
+
+
+def every(shelf, news, known={}):
+    """All tables over a shelf with as many versions as the head of news."""
+    place = (shelf, reference.head_of(news))
+    if place not in known:
+        known[place] = Every(*place)
+    return known[place]
+
+
+def with_values(table, news, other=0):
+    """The history of a table with the values that news tells, and another value elsewhere."""
+    told = {piece[1:3]: piece[3] for piece in news if piece[0] == "value"}
     history = []
     for at, commit in enumerate(table):
-        pairs = []
-        for key in commit:
-            number = sum(key in earlier for earlier in table[:at + 1])
-            pairs.append((key, sum({piece[3] for piece in news if piece[:3] == ("value", key, number)})))
-        history.append(tuple(pairs))
+        numbers = [(key, sum(key in earlier for earlier in table[:at + 1])) for key in commit]
+        history.append(tuple((key, told.get((key, number), other)) for key, number in numbers))
     return history
 
 
@@ -209,6 +227,42 @@ def grid_of(shelf, news):
             if any(piece[0] == "wrote" and key in piece[2] or piece == ("did", version, key) for piece in pieces):
                 due.append((version - 1, part))
     return versions, [row[3:] for row in rows], free, due
+
+
+def says_so(shelf, news, paper):
+    """Whether what a paper says is so, counted over all versions, stretches and cells (point 12)."""
+    kind, its_versions, its_stretches = paper
+    versions, parts, free, due = grid_of(shelf, news)
+    rows = [row[:3] for row in stretches(shelf, news)]
+    ours = [version in its_versions for version in range(1, len(versions) + 1)]
+    theirs = [row in its_stretches for row in rows]
+    assert ours.count(True) == len(its_versions) and theirs.count(True) == len(its_stretches)
+    low_versions, high_versions = [sum(row[at] for row, one in zip(versions, ours) if one) for at in (0, 1)]
+    low_parts, high_parts = [sum(row[at] for row, one in zip(parts, theirs) if one) for at in (0, 1)]
+    others_in = [sum(theirs[part] and not ours[version] for version, part in cells) for cells in (due, free)]
+    outside = [sum(ours[version] and not theirs[part] for version, part in cells) for cells in (due, free)]
+    if kind == "full":
+        return low_versions + others_in[0] > high_parts + outside[1]
+    return low_parts + outside[0] > high_versions + others_in[1]
+
+
+def is_in_form(shelf, news, paper):
+    """Whether a tuple has the form of a paper about news."""
+    kind, its_versions, its_stretches = paper
+    versions = tuple(version for version in range(1, reference.head_of(news) + 1) if version in its_versions)
+    rows = tuple(row[:3] for row in stretches(shelf, news) if row[:3] in its_stretches)
+    return type(paper) is tuple and kind in ("full", "empty") and paper[1:] == (versions, rows)
+
+
+def least_quarrel(shelf, news, further=()):
+    """The least list of indices such that no table agrees with these and further pieces, None if there is none."""
+    indices = range(len(news))
+    subsets = [chosen for size in range(len(news) + 1) for chosen in itertools.combinations(indices, size)]
+    for chosen in sorted(subsets, key=lambda one: (len(one), one)):
+        pieces = [news[at] for at in chosen] + list(further)
+        if not every(shelf, pieces).agreeing(pieces):
+            return list(chosen)
+    return None
 
 
 def bits(cells, at):

@@ -6,19 +6,8 @@ import unittest
 from suresnap.counts import counts, history_with
 from suresnap.tables import first_history, possible
 from tests import reference
-from tests.drawing import any_piece, drawn_news, true_news
-from tests.enumeration import Every
-
-SHELVES = (("a",), ("b",), ("a", "b"), ("a", "ab"), ("a", "b", "c"), ("b", "ba", "c"))
-KNOWN = {}
-
-
-def every(shelf, news):
-    """The enumeration for a shelf and as many versions as the head of news."""
-    place = (shelf, reference.head_of(news))
-    if place not in KNOWN:
-        KNOWN[place] = Every(*place)
-    return KNOWN[place]
+from tests.drawing import SHELVES, any_piece, drawn_news, mixed, true_news
+from tests.enumeration import every
 
 
 class AsTheEnumeration(unittest.TestCase):
@@ -87,8 +76,7 @@ class Invariance(unittest.TestCase):
             news = drawn_news(draw, shelf, draw.randint(0, 8), draw.randint(1, 12))
             wanted = self.answers(shelf, news)
             for _ in range(3):
-                other = news + [piece for piece in news if draw.random() < 0.3]
-                draw.shuffle(other)
+                other = mixed(draw, news)
                 self.assertEqual(self.answers(shelf, other), wanted, (shelf, news, other))
             self.assertEqual(self.answers(shelf, sorted(set(news), key=str)), wanted, (shelf, news))
 

@@ -10,7 +10,8 @@ PACKAGE = pathlib.Path(__file__).resolve().parent.parent / "suresnap"
 FILES = sorted(PACKAGE.rglob("*.py"))
 BUILTINS = set("""len range enumerate zip min max sum abs sorted reversed int str bool list tuple dict set frozenset
     isinstance ord repr any all divmod iter next Exception ValueError TypeError KeyError IndexError LookupError
-    ZeroDivisionError ArithmeticError OverflowError RuntimeError NotImplementedError StopIteration""".split())
+    ZeroDivisionError ArithmeticError OverflowError RuntimeError NotImplementedError StopIteration
+    staticmethod""".split())
 BARRED = set("""type typing enum Enum IntEnum StrEnum Flag IntFlag Generic Protocol ABC ABCMeta namedtuple NamedTuple
     TypedDict register mro elements open input law version_info with_traceback add_note""".split())
 VALUE_METHODS = set("""append clear copy count endswith extend find get index insert isalnum isalpha isdigit islower
@@ -23,7 +24,20 @@ INTERFACE = {
     "bounds": ("clashes", "stretches"),
     "tables": ("possible", "first_history"),
     "counts": ("counts", "history_with"),
+    "sure": ("sure_value", "true_versions", "newest", "unsure"),
+    "papers": ("is_right", "paper"),
+    "quarrels": ("quarrel", "against"),
+    "client": ("Client",),
 }
+CLIENT = {
+    "hear": ["self", "piece"], "head": ["self"], "counts": ["self", "key", "version"],
+    "sure_value": ["self", "key", "version"], "change": ["self", "key", "how", "number"], "open_changes": ["self"],
+    "taken": ["self", "change", "version"], "refused": ["self", "change"], "view": ["self", "keys"],
+    "state": ["self"], "fork": ["self"], "opened": ["shelf", "state"], "__init__": ["self", "shelf"],
+}
+LIBRARY = {"itertools": {"combinations"}}
+LAZY = {"range", "zip", "enumerate", "reversed", "combinations", "items", "keys", "values"}
+TAKERS = set("list tuple dict sorted sum any all enumerate zip min max combinations len".split())
 
 
 def trees():
@@ -53,8 +67,10 @@ class Language(unittest.TestCase):
     def test_imports(self):
         for path, node in nodes((ast.Import, ast.ImportFrom)):
             self.assertIsInstance(node, ast.ImportFrom, path)
-            self.assertTrue(node.level == 0 and node.module.startswith("suresnap."), path)
-            self.assertNotIn("*", [name.name for name in node.names], path)
+            names = {name.name for name in node.names}
+            self.assertTrue(node.level == 0 and not any(name.asname for name in node.names), path)
+            self.assertTrue(node.module.startswith("suresnap.") or names <= LIBRARY.get(node.module, set()), path)
+            self.assertNotIn("*", names, path)
 
     def test_module_level(self):
         allowed = (ast.ImportFrom, ast.FunctionDef, ast.ClassDef, ast.Assign, ast.Expr)
@@ -89,16 +105,42 @@ class Language(unittest.TestCase):
                 self.assertIn(node.func.attr, own | VALUE_METHODS, path)
 
     def test_no_name_is_a_method_and_an_attribute(self):
-        for path, kind in nodes(ast.ClassDef):
-            own = {node.name for node in kind.body if isinstance(node, ast.FunctionDef)}
-            for node in ast.walk(kind):
-                if isinstance(node, ast.Attribute) and isinstance(node.ctx, ast.Store):
-                    self.assertNotIn(node.attr, own, path)
+        own = {node.name for _, kind in nodes(ast.ClassDef) for node in kind.body if isinstance(node, ast.FunctionDef)}
+        for path, node in nodes(ast.Attribute):
+            if isinstance(node.ctx, ast.Store):
+                self.assertNotIn(node.attr, own, path)
+
+    def test_no_parameter_or_variable_has_the_name_of_a_class_or_an_import(self):
+        for path, tree in trees():
+            barred = {node.name for node in tree.body if isinstance(node, ast.ClassDef)}
+            barred |= {name.name for node in tree.body if isinstance(node, ast.ImportFrom) for name in node.names}
+            for node in ast.walk(tree):
+                if isinstance(node, ast.arg):
+                    self.assertNotIn(node.arg, barred, path)
+                if isinstance(node, ast.Name) and isinstance(node.ctx, ast.Store):
+                    self.assertNotIn(node.id, barred, path)
+
+    def test_what_is_lazy_is_iterated_at_once(self):
+        for path, tree in trees():
+            good = set()
+            for node in ast.walk(tree):
+                if isinstance(node, (ast.For, ast.comprehension)):
+                    good.add(node.iter)
+                if isinstance(node, ast.Call) and name_of(node) in TAKERS:
+                    good |= set(node.args)
+                if isinstance(node, ast.Call) and name_of(node) in LAZY:
+                    self.assertIn(node, good, (path, ast.unparse(node)))
+
+    def test_sets_are_not_iterated(self):
+        for path, node in nodes((ast.For, ast.comprehension)):
+            self.assertNotIsInstance(node.iter, (ast.Set, ast.SetComp), path)
+            self.assertFalse(isinstance(node.iter, ast.Call) and name_of(node.iter) == "set", path)
 
     def test_no_two_files_import_from_each_other(self):
         wanted = {path.stem: set() for path in FILES}
         for path, node in nodes(ast.ImportFrom):
-            wanted[path.stem].add(node.module.split(".")[-1])
+            if node.module.startswith("suresnap."):
+                wanted[path.stem].add(node.module.split(".")[-1])
         while wanted:
             free = [name for name, needed in wanted.items() if not needed & set(wanted)]
             self.assertTrue(free, wanted)
@@ -116,6 +158,18 @@ class Language(unittest.TestCase):
             defined = [node.name for node in tree.body if isinstance(node, (ast.FunctionDef, ast.ClassDef))]
             for one in wanted:
                 self.assertIn(one, defined)
+
+    def test_methods_of_the_client_are_defined_in_it(self):
+        kinds = [kind for path, kind in nodes(ast.ClassDef) if kind.name == "Client" and path.stem == "client"]
+        methods = {node.name: node for node in kinds[0].body if isinstance(node, ast.FunctionDef)}
+        for name, arguments in CLIENT.items():
+            self.assertEqual([one.arg for one in methods[name].args.args], arguments, name)
+        self.assertEqual([one.id for one in methods["opened"].decorator_list], ["staticmethod"])
+
+
+def name_of(call):
+    """The name of what is called, without what stands in front of it."""
+    return call.func.attr if isinstance(call.func, ast.Attribute) else getattr(call.func, "id", None)
 
 
 def without_docstrings(tree):

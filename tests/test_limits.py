@@ -7,35 +7,8 @@ from suresnap.bounds import clashes, stretches
 from suresnap.counts import counts, history_with
 from suresnap.tables import first_history, possible
 from tests import reference
-from tests.drawing import a_table, bent_news, drawn_news, true_news, true_piece
+from tests.drawing import SIX, THREE, bent_news, bent_once, drawn_news, tight_news, true_news
 from tests.enumeration import Sweep, has_paper
-
-THREE = ("a", "b", "c")
-SIX = ("a", "b", "c", "d", "e", "f")
-
-
-def tight_news(draw, shelf, versions):
-    """40 pieces that leave little room: many of each version, times of each key, and others."""
-    table = a_table(draw, shelf, versions)
-    news = [("many", version, len(table[version - 1])) for version in range(1, versions + 1)]
-    for key in shelf:
-        for version in (versions // 2, versions):
-            news.append(("times", key, version, sum(key in commit for commit in table[:version])))
-    while len(news) < 40:
-        piece = true_piece(draw, shelf, table)
-        if piece[0] in ("did", "among", "value"):
-            news.append(piece)
-    draw.shuffle(news)
-    return news
-
-
-def bent_once(draw, news):
-    """The list with another number in one of its pieces many or times."""
-    news = list(news)
-    places = [at for at, piece in enumerate(news) if piece[0] in ("many", "times")]
-    at = draw.choice(places)
-    news[at] = news[at][:-1] + (max(1, news[at][-1] + draw.choice((-1, 1))),)
-    return news
 
 
 class ThreeKeysTwentyVersions(unittest.TestCase):
